@@ -1,25 +1,12 @@
-"""The calls 0 to 8: ordinary inputs, refusals, refusals due at once, and the list they stand in."""
+"""The calls 0 to 8, set and clock: ordinary inputs, refusals, several due at once, and the list they stand in."""
 
 import unittest
 
-from tests.asking import BOOKS, PRINT, Model, ask, build, flat, flow, heat, last, outside, run, temp, trace
+from tests.asking import (BOOKS, CLOCK, FAR, PRINT, REST, Model, Refused, ask, bracket, build, flat, flow, halve, heat,
+                          last, latest, least, outside, run, set_room, settle, temp, trace)
 from warmrooms.building import answers
 
-TEXT = ("room a 0 20\nroom b 4 -3\noutside o 5\noutside p -12\nlink a b 7\nlink o a 9\nlink b p 100\n"
-        "heater h a 30\nheater i b 1000000\n")
-START = [build(TEXT), outside(1, 6), heat(1, 12), run(3)]
-LOOKS = [PRINT, temp(1), temp(2), trace(1), trace(2), BOOKS, flow(1), flow(2), flow(3)]
-FAR = 1000000000
-
-
-class Refused(unittest.TestCase):
-    def refused(self, call, why, start=START):
-        """The call is refused alone, and all is as if it had not been asked."""
-        after = LOOKS + [heat(2, 1), outside(2, 1), run(1)] + LOOKS + [run(900)]
-        plain = ask(*start, *after)
-        mixed = ask(*start, call, *after)
-        self.assertEqual(mixed[len(start)], [why], call)
-        self.assertEqual(mixed[:len(start)] + mixed[len(start) + 1:], plain, call)
+TEXT, START, LOOKS = Refused.TEXT, Refused.START, Refused.LOOKS
 
 
 class Build(Refused):
@@ -158,7 +145,102 @@ class Looks(Refused):
             self.assertEqual(last(build(text), run(5), BOOKS), [0, 0, 0, 0, 0] + [0, 0, 0] * count)
 
 
+class Set(Refused):
+    def test_ordinary(self):
+        model = Model(TEXT)
+        model.set_weather([6, -12, 12, 0])
+        for step in range(3):
+            model.step()
+        model.set_room(2, -77)
+        self.assertEqual(ask(*START, set_room(2, -77), *model.look_calls())[4:], [[0]] + model.looks())
+        for step in range(4):
+            model.step()
+        self.assertEqual(ask(*START, set_room(2, -77), run(4), *model.look_calls())[4:], [[0], [0, 7]] + model.looks())
+
+    def test_given_and_gone_begin_anew_and_all_else_stays(self):
+        looks = [CLOCK, PRINT, temp(1), trace(1)]
+        plain, given = ask(*START, *looks), ask(*START, BOOKS)[-1]
+        self.assertNotIn(0, given[4:])
+        got = ask(*START, set_room(2, -3), *looks, BOOKS)
+        self.assertEqual(got[5], [0, 3, 6, -12, 12, 0])
+        self.assertEqual([got[5], got[6], got[7]], plain[4:7])
+        self.assertEqual(got[-1][4:], [0] * 7)
+        self.assertEqual(got[8][3], plain[7][3])
+
+    def test_they_begin_anew_even_if_it_is_so_warm_already(self):
+        text = "room a 0 8\nroom b 0 0\noutside o 8\nlink a o 32\nlink b o 32\nheater h b 3\n"
+        self.assertEqual(ask(build(text), heat(1, 3), run(1), BOOKS, set_room(1, 8), BOOKS, run(1), BOOKS)[3::2],
+                         [[0, 15, 0, 15, 3, -4, 0, 1000000003], [0, 15, 0, 15, 0, 0, 0, 0],
+                          [0, 18, 1, 37, 3, -1, 1, 1000000006]])
+
+    def test_before_any_step_and_again_and_again(self):
+        text = "room a 1 8\noutside o 0\nlink a o 32\n"
+        self.assertEqual(ask(build(text), set_room(1, 100), set_room(1, -4), temp(1), BOOKS, run(1), set_room(1, 12),
+                             temp(1), run(1), temp(1), set_room(1, 7), temp(1), BOOKS)[3:],
+                         [[0, -4, 0, 1000000003], [0, -8, 0, 999999999, 0, 0, 0, 0], [0, 1], [0], [0, 12, 0, 12],
+                          [0, 2], [0, 9, 0, 9], [0], [0, 7, 0, 7], [0, 14, 0, 14, 0, 0, 0, 0]])
+
+    def test_behind_many_steps(self):
+        model = Model(TEXT)
+        for step in range(300):
+            model.step()
+        model.set_room(1, 100000)
+        for step in range(3):
+            model.step()
+        self.assertEqual(ask(build(TEXT), run(300), set_room(1, 100000), run(3), *model.look_calls())[4:],
+                         model.looks())
+
+    def test_a_building_told_anew_knows_nothing_of_it(self):
+        fresh = ask(build(TEXT), *LOOKS)
+        self.assertEqual(ask(*START, set_room(1, 5), build(TEXT), *LOOKS)[5:], fresh)
+
+    def test_edges_of_the_temperature(self):
+        self.assertEqual(ask(build(TEXT), set_room(1, 100000), temp(1), set_room(1, -100000), temp(1))[1:],
+                         [[0], [0, 100000, 0, 100000], [0], [0, -100000, 0, 999900007]])
+
+    def test_no_such_room(self):
+        for number in (0, 3, -1, -2, FAR, -FAR):
+            self.refused(set_room(number, 0), -1)
+        self.assertEqual(ask(set_room(1, 0)), [[-1]])
+
+    def test_no_such_temperature(self):
+        for temperature in (100001, -100001, FAR, -FAR):
+            self.refused(set_room(2, temperature), -2)
+
+    def test_both_at_once(self):
+        for number in (0, 3, -FAR):
+            for temperature in (100001, -FAR):
+                self.refused(set_room(number, temperature), -1)
+
+
+class Clock(Refused):
+    def test_ordinary(self):
+        calls = [build(TEXT), CLOCK, outside(2, -77), heat(1, 30), heat(2, 4), run(3), CLOCK, outside(1, 9), run(5),
+                 heat(1, 1), CLOCK, build(TEXT), CLOCK]
+        self.assertEqual([answer for call, answer in zip(calls, ask(*calls)) if call == CLOCK],
+                         [[0, 0, 5, -12, 0, 0], [0, 3, 5, -77, 30, 4], [0, 8, 9, -77, 1, 4], [0, 0, 5, -12, 0, 0]])
+
+    def test_outsides_and_heaters_in_their_order(self):
+        text = "room a 0 1\noutside p 7\nheater i a 5\noutside o 8\nheater h a 5\n"
+        self.assertEqual(last(build(text), heat(1, 2), heat(2, 3), CLOCK), [0, 0, 7, 8, 2, 3])
+
+    def test_with_little_there(self):
+        self.assertEqual(ask(CLOCK, run(7), CLOCK, build("outside o -4\n"), CLOCK, build("room a 0 1\nheater h a 1\n"),
+                             CLOCK, run(1000), CLOCK)[::2],
+                         [[0, 0], [0, 7], [0, 0, -4], [0, 0, 0], [0, 1000, 0]])
+
+    def test_a_refused_call_is_not_seen_in_it(self):
+        for call in (run(998), run(0), heat(1, 31), outside(1, 100001), set_room(1, 100001), settle(0, 1001)):
+            self.assertEqual(last(*START, call, CLOCK), [0, 3, 6, -12, 12, 0])
+
+    def test_it_changes_nothing(self):
+        self.assertEqual(self.unchanged(CLOCK), [0, 3, 6, -12, 12, 0])
+
+
 class TheList(unittest.TestCase):
+    AHEAD = [REST, settle(1, 9), halve(9), bracket(3, [0, 0, 1, 1], [1, 1, 2, 2]), latest(1, 5, 9), least(1, 1, 5),
+             set_room(1, 4), CLOCK, bracket(1, [], [1] * 20)]
+
     def test_each_answer_has_its_length_ahead_of_it(self):
         text = "room a 0 3\n"
         self.assertEqual(answers(flat([build(text), PRINT, temp(1), temp(2), run(1), run(1001), build("x"), BOOKS])),
@@ -166,16 +248,16 @@ class TheList(unittest.TestCase):
                                                                              3, 1, 1, 1, 5, 0, 3, 0, 3, 0])
 
     def test_the_list_handed_in_is_unchanged(self):
-        calls = flat(START + [build("room z 0 1\nx\n"), heat(9, 9)] + LOOKS)
+        calls = flat(START + [build("room z 0 1\nx\n"), heat(9, 9)] + LOOKS + self.AHEAD)
         before = list(calls)
         answers(calls)
         self.assertEqual(calls, before)
 
     def test_the_same_list_gives_the_same_answer(self):
-        calls = flat(START + LOOKS)
+        calls = flat(START + LOOKS + self.AHEAD)
         first = answers(calls)
         self.assertEqual(answers(calls), first)
-        self.assertEqual(answers(flat([PRINT])), [1, 0])
+        self.assertEqual(answers(flat([PRINT, CLOCK, REST])), [1, 0, 2, 0, 0, 1, 0])
         self.assertEqual(answers(calls), first)
 
     def test_what_is_given_back_is_a_list_of_its_own(self):
@@ -186,10 +268,23 @@ class TheList(unittest.TestCase):
         self.assertEqual(answers(calls), kept)
 
     def test_all_answers_are_whole_numbers(self):
-        row = answers(flat(START + [temp(9), run(0), run(1000), build("x")] + LOOKS))
+        row = answers(flat(START + self.AHEAD + [temp(9), run(0), run(1000), build("x")] + LOOKS))
         self.assertIs(type(row), list)
         for number in row:
             self.assertIs(type(number), int)
+
+    def test_each_new_call_has_its_length_ahead_of_its_answer(self):
+        self.assertEqual(answers(flat([build("room a 0 1\noutside o 4\nlink o a 64\nheater h a 3\n"), *self.AHEAD[:3],
+                                       bracket(1, [1, 0], [2, 3]), *self.AHEAD[4:]])),
+                         [5, 0, 1, 1, 1, 1, 3, 0, 4000000, 1, 3, 0, 1, 1, 3, 0, 1, 1, 3, 0, 1000000, 5000000, 2, 0, 8,
+                          2, 0, 1, 1, 0, 4, 0, 0, 4, 0, 1, -2])
+
+    def test_any_call_may_come_first(self):
+        for call, due in ((PRINT, [0]), (outside(1, 0), [-1]), (heat(1, 0), [-1]), (run(2), [0, 2]), (temp(1), [-1]),
+                          (trace(1), [-1]), (BOOKS, [0, 0, 0, 0, 0]), (flow(1), [-1]), (REST, [0]),
+                          (settle(0, 0), [0, 1, 0]), (halve(0), [0, 1, 0]), (bracket(9, [], []), [0]),
+                          (latest(1, 0, 0), [-1]), (least(1, 1, 0), [-1]), (set_room(1, 0), [-1]), (CLOCK, [0, 0])):
+            self.assertEqual(ask(call, CLOCK)[0], due)
 
     def test_two_hundred_calls(self):
         self.assertEqual(ask(*[run(5)] * 200), [[0, 5 * i] for i in range(1, 201)])

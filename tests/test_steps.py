@@ -4,37 +4,12 @@ import random
 import unittest
 from fractions import Fraction
 
-from tests.asking import (BOOKS, MODULUS, Model, ask, build, flow, heat, last, millionths, outside, residue, run,
-                          temp, told, trace, untold)
+from tests.asking import (BOOKS, MODULUS, Model, ask, build, flow, heat, last, millionths, outside, random_text,
+                          residue, run, set_room, temp, told, trace, untold)
 from warmrooms.exact import tell_exactly, tell_millionths
 from warmrooms.plan import Plan
 from warmrooms.texts import take_text
 from warmrooms.warmth import Net, Warmth
-
-
-def random_text(dice, rooms, outsides, links, heaters):
-    """A building all of whose rooms are steady."""
-    names = [f"r{i}" for i in range(rooms)] + [f"o{i}" for i in range(outsides)]
-    lines, spare = [], {}
-    for name in names[:rooms]:
-        cap = dice.choice((0, 0, 1, 2, 5, 9, 10))
-        spare[name] = 64 * 2 ** cap
-        lines.append(f"room {name} {cap} {dice.randint(-100000, 100000)}")
-    for name in names[rooms:]:
-        spare[name] = 100000
-        lines.append(f"outside {name} {dice.randint(-100000, 100000)}")
-    pairs = [(names[i], names[j]) for i in range(rooms) for j in range(i + 1, len(names))]
-    for first, second in dice.sample(pairs, min(links, len(pairs))):
-        most = min(spare[first], spare[second])
-        if most > 0:
-            conductance = dice.randint(1, max(1, most // dice.choice((1, 3, 9))))
-            spare[first] -= conductance
-            spare[second] -= conductance
-            first, second = dice.sample((first, second), 2)
-            lines.append(f"link {first} {second} {conductance}")
-    for i in range(heaters):
-        lines.append(f"heater h{i} {dice.choice(names[:rooms])} {dice.randint(1, 1000000)}")
-    return "".join(line + "\n" for line in lines)
 
 
 class ToldNumbers(unittest.TestCase):
@@ -233,6 +208,28 @@ class Conservation(unittest.TestCase):
                 floors = row[1] + row[5] + row[8] + row[11]
                 self.assertTrue(0 <= books[0][1] + row[4] - floors < 4, seed)
 
+    def test_books_balance_anew_behind_each_set(self):
+        for seed in range(6):
+            dice = random.Random(seed)
+            text = random_text(dice, 6, 3, 18, 4)
+            model = Model(text)
+            calls = [build(text)]
+            while len(calls) < 190:
+                if dice.randint(0, 3) == 0:
+                    calls += [set_room(dice.randint(1, 6), dice.randint(-100000, 100000)), BOOKS]
+                heater = dice.randint(1, 4)
+                calls += [heat(heater, dice.randint(0, model.most[f"h{heater - 1}"])), run(dice.randint(1, 15)), BOOKS]
+            at_first = None
+            for call, before, books in zip(calls[1:], calls, ask(*calls)[1:]):
+                if call == BOOKS and before[0] == 15:
+                    self.assertEqual(books[4:], [0] * 10)
+                    at_first = books
+                if call == BOOKS and at_first:
+                    there = sum(residue(books[place:place + 3]) for place in (1, 5, 8, 11))
+                    self.assertEqual((there - books[4] - residue(at_first[1:4])) % MODULUS, 0, seed)
+                    floors = books[1] + books[5] + books[8] + books[11]
+                    self.assertTrue(0 <= at_first[1] + books[4] - floors < 4, seed)
+
     def test_books_balance_as_fractions(self):
         text = "room a 0 900\nroom b 1 -33\noutside o 40\noutside p 7\nlink a b 8\nlink a o 16\nlink p b 4\nheater h b 9\n"
         calls = [build(text)]
@@ -250,11 +247,17 @@ class Conservation(unittest.TestCase):
         net = Net(plan)
         warmth = Warmth([temperature for name, cap, temperature in plan.rooms], 4)
         levels = [most // 3 for name, room, most in plan.heaters]
-        at_first = warmth.held(net)
+        at_first, given, since = warmth.held(net), 0, 0
         for step in range(1, 301):
             warmth.make_step(net, [step, -step * step, 100000, -100000], net.gifts(levels))
-            given = step * sum(levels)
-            self.assertEqual(warmth.held(net) + sum(warmth.gone), (at_first + given) << warmth.power)
+            given += sum(levels)
+            self.assertEqual(warmth.held(net) + sum(warmth.gone), (at_first << (warmth.power - since))
+                             + (given << warmth.power))
+            if step == 150:
+                warmth.set_room(3, -5)
+                warmth.forget_gone()
+                at_first, given, since = warmth.held(net), 0, warmth.power
+                self.assertEqual(warmth.gone, [0] * 4)
 
 
 class Order(unittest.TestCase):

@@ -17,6 +17,19 @@ def tell_exactly(whole, power):
     return [whole >> power, power - spare, (whole >> spare) % MODULUS]
 
 
+def greatest_divisor(first, second):
+    """The greatest number that divides both, of which the second is above 0."""
+    while second > 0:
+        first, second = second, first % second
+    return first
+
+
+def tell_ratio(whole, denominator):
+    """Whole over a denominator above 0: in millionths, and what its denominator is in least terms."""
+    least = denominator // greatest_divisor(whole, denominator)
+    return [whole * MILLION // denominator, least % MODULUS]
+
+
 def tell_millionths(whole, power):
     """The one number that tells whole over 2^power in millionths."""
     return [(whole * MILLION) >> power]

@@ -22,8 +22,12 @@ class House:
         self.warmth = Warmth(temperatures, len(plan.outsides))
 
     def run(self, steps):
-        gifts = self.net.gifts(self.levels)
-        for step in range(steps):
-            self.warmth.make_step(self.net, self.outsides, gifts)
+        self.warmth.make_steps(self.net, self.outsides, self.levels, steps)
         self.given += steps * sum(self.levels)
         self.clock += steps
+
+    def set_room(self, room, temperature):
+        # the heat that this brings in or takes out is in no book, so the books begin anew
+        self.warmth.set_room(room, temperature)
+        self.warmth.forget_gone()
+        self.given = 0

@@ -33,6 +33,10 @@ class Plan:
     def all_names(self):
         return self.end_names() + [name for name, room, most in self.heaters]
 
+    def mosts(self):
+        """The most that each heater can give in a step."""
+        return [most for name, room, most in self.heaters]
+
     def are_linked(self, first, second):
         pairs = [(one, other) for one, other, conductance in self.links]
         return (first, second) in pairs or (second, first) in pairs

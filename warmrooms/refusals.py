@@ -13,6 +13,14 @@ class PastTheEnd(Exception):
     """The clock would go too far."""
 
 
+class NoWayOut(Exception):
+    """From some room no way of links leads to an outside."""
+
+
+class NotEnough(Exception):
+    """Nothing that may be chosen makes the room warm enough."""
+
+
 def place_of(number, things):
     """Where the thing with this number (from 1) stands in the list."""
     if number < 1 or number > len(things):

@@ -61,6 +61,27 @@ class Warmth:
         self.gone = gone
         self.power += SIXTY_FOURTHS + net.most_cap
 
+    def make_steps(self, net, outsides, levels, steps):
+        gifts = net.gifts(levels)
+        for step in range(steps):
+            self.make_step(net, outsides, gifts)
+
+    def copied(self):
+        twin = Warmth(self.rooms, 0)
+        twin.power = self.power
+        twin.gone = list(self.gone)
+        return twin
+
+    def set_room(self, room, temperature):
+        self.rooms[room] = temperature << self.power
+
+    def forget_gone(self):
+        self.gone = [0 for gone in self.gone]
+
+    def is_within(self, bound):
+        """Whether each room's temperature is from -bound to bound."""
+        return max([abs(whole) for whole in self.rooms], default=0) <= bound << self.power
+
     def held(self, net):
         """What all rooms hold together, over 2^power."""
         return sum([whole << cap for whole, cap in zip(self.rooms, net.caps)])
